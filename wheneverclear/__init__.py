@@ -1,0 +1,1 @@
+"""Wheneverclear: which wishes the clear telescopes look at, hour by hour."""
