@@ -2,6 +2,7 @@
 
 import random
 
+from tests.oracles import do_quarrel
 from wheneverclear.books import Book
 
 SIX = Book("book 6 2\nkind moon 3 0-2 5\nkind comet 5/2 1-3\nkind dim 1 4")
@@ -118,6 +119,42 @@ def some_book(chance, most_hours=24, most_kinds=8):
         kinds[name] = amount, some_hours(chance, hours)
         lines.append(f"kind {name} {word} {some_spans(kinds[name][1])}")
     return Book("\n".join(lines)), kinds
+
+
+def book_of(hours, telescopes, kinds):
+    """The book with these {name: (worth, hours)}."""
+    lines = [f"book {hours} {telescopes}"]
+    for name, ((top, bottom), own) in kinds.items():
+        word = str(top) if bottom == 1 else f"{top}/{bottom}"
+        lines.append(f"kind {name} {word} {some_spans(own)}")
+    return Book("\n".join(lines))
+
+
+def next_hours(chance, hours, known):
+    """Hours of one kind more, often within, or around, those of another one."""
+    own = set(some_hours(chance, hours))
+    if chance.random() < 0.3:
+        low = chance.randrange(hours)
+        own = set(range(low, chance.randint(low + 1, hours)))
+    if known and chance.random() < 0.6:
+        other = set(chance.choice(known))
+        own = chance.choice([own | other, own & other, other, own - other]) or own
+    return tuple(sorted(own))
+
+
+def calm_book(chance, most_hours=24, most_kinds=8):
+    """(book, kinds) of a book that agrees."""
+    hours = chance.randint(1, most_hours)
+    many = chance.randint(1, most_kinds)
+    kinds = {}
+    for _ in range(200):
+        name = chance.choice(["a", "z", "moon", "comet", "abcdef", "dim", "star", "ab", "zzzzzz", "b"])
+        more = {**kinds, name: (some_amount(chance)[1], next_hours(chance, hours, [own for _, own in kinds.values()]))}
+        if name in kinds or len(kinds) == many:
+            continue
+        if not any(do_quarrel(more, name, other, hour) for other in kinds for hour in range(hours)):
+            kinds = more
+    return book_of(hours, chance.randint(1, 4), kinds), kinds
 
 
 def some_weather(chance, book):

@@ -5,7 +5,7 @@ import unittest
 
 from tests.samples import FULL, ONE, SIX, Line, Whole, chances, is_plain, odd_values, raised, same, some_amount
 from tests.samples import some_book, some_hours, some_spans, spoiled
-from wheneverclear.books import Book, hours_of, later, up, with_kind, without, worth
+from wheneverclear.books import Book, hours_of, later, rank_at, up, with_kind, without, worth
 from wheneverclear.errors import BadBook, BadHours, BadName, BadWorth, Last, NoHour, NoKind, There, TooMany
 
 KIND = re.compile(r"kind ([a-z]{1,6}) (\S+)((?: [0-9-]+)+)")
@@ -260,6 +260,14 @@ class ToldOfKindsTest(unittest.TestCase):
     def test_hours_of_a_derived_class(self):
         self.assertTrue(same(up(SIX, Whole(4)), ("dim",)))
         self.assertTrue(same(later(SIX, Line("moon"), Whole(1)), (2, 5)))
+
+
+class RanksTest(unittest.TestCase):
+    def test_more_worth_then_fewer_later_hours(self):
+        book = Book("book 4 1\nkind far 3/2 0-2\nkind low 3/2 0-1\nkind dim 1/3 0-3\nkind alike 3/2 0 3")
+        self.assertEqual(rank_at(book, 0), {"far": (-9, 2), "low": (-9, 1), "dim": (-2, 3), "alike": (-9, 1)})
+        self.assertEqual(rank_at(book, 1), {"far": (-9, 1), "low": (-9, 0), "dim": (-2, 2)})
+        self.assertEqual(rank_at(Book("book 2 1\nkind a 1 1"), 0), {})
 
 
 class WithoutTest(unittest.TestCase):

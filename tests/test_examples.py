@@ -5,9 +5,13 @@ import os
 import unittest
 
 from tests.samples import raised
-from wheneverclear.books import Book, hours_of, later, with_kind
-from wheneverclear.errors import BadBook, There
-from wheneverclear.nights import fits, open_at
+from wheneverclear.best import best_worth, counts, shows_best
+from wheneverclear.books import Book, hours_of, later, up, with_kind, worth
+from wheneverclear.choosers import Chooser, led, shows_beaten
+from wheneverclear.errors import BadBook, BadChooser, NotUp, There
+from wheneverclear.nights import fits, open_at, worth_of
+from wheneverclear.quarrels import is_ahead, shows_agrees
+from wheneverclear.rule import chosen, night
 
 README = os.path.join(os.path.dirname(os.path.dirname(os.path.abspath(__file__))), "README.md")
 
@@ -38,6 +42,74 @@ NIGHTS = r"""
 [True, False, (1, 0, 0)]
 """
 
+QUARRELS = r"""
+>>> from wheneverclear.books import Book
+>>> from wheneverclear.quarrels import agrees, is_ahead, quarrels, shows_agrees
+>>> calm = Book('book 6 2\nkind comet 3 0-2\nkind moon 2 1-5\nkind star 1 0-5')
+>>> [is_ahead(calm, 'comet', 'star', 0), is_ahead(calm, 'star', 'comet', 0), is_ahead(calm, 'moon', 'star', 5), quarrels(calm)]
+[True, False, True, ()]
+>>> agrees(calm)
+('agrees', (('comet', 'star'), ('comet', 'moon', 'star'), ('comet', 'moon', 'star'), ('moon', 'star'), ('moon', 'star'), ('moon', 'star')))
+>>> odd = Book('book 4 1\nkind gem 1 0-1\nkind sun 2 0 3')
+>>> [quarrels(odd), agrees(odd)[0], is_ahead(odd, 'sun', 'gem', 0)]
+[(('gem', 'sun', 0),), 'quarrels', False]
+>>> [shows_agrees(odd, ('quarrels', 'gem', 'sun', 0, after_gem, (0, 0, 1))) for after_gem in ((0, 0, 0), (1, 0, 0), (0, 0, 1))]
+[True, True, False]
+>>> [shows_agrees(odd, ('quarrels', 'sun', 'gem', 0, (0, 0, 1), (0, 0, 0))), shows_agrees(odd, ('agrees', ()))]
+[True, False]
+>>> even = Book('book 2 1\nkind one 2 0-1\nkind two 2 0-1')
+>>> [shows_agrees(even, ('agrees', rows)) for rows in ((('one', 'two'), ('two', 'one')), (('one', 'two'), ('two',)))]
+[True, False]
+"""
+
+RULE = r"""
+>>> from wheneverclear.books import Book
+>>> from wheneverclear.rule import chosen, night, worth_had
+>>> book = Book('book 4 1\nkind far 3 0-2\nkind low 3 0-1\nkind dim 1/2 0-3')
+>>> [chosen(book, 0, ('dim', 'far', 'low', 'low'), 1), chosen(book, 1, ('dim', 'far', 'low', 'low'), 1), chosen(book, 2, ('dim', 'far'), 0)]
+[(2,), (2,), ()]
+>>> wishes = (('dim', 0), ('far', 0), ('low', 0), ('far', 2))
+>>> [night(book, (1, 1, 1, 1), wishes), worth_had(book, (1, 1, 1, 1), wishes)]
+[((0, 2), (1, 1), (2, 3), (3, 0)), (19, 2)]
+>>> [night(book, (1, 0, 1, 0), wishes), worth_had(book, (1, 0, 1, 0), wishes)]
+[((0, 2), (2, 1)), (6, 1)]
+>>> wide = Book('book 2 3\nkind a 1 0-1\nkind b 5 1')
+>>> [chosen(wide, 1, ('a', 'b', 'a', 'b'), 3), night(wide, (2, 3), (('a', 0), ('b', 0), ('b', 1), ('a', 1), ('a', 1)))]
+[(0, 1, 3), ((0, 0), (1, 1), (1, 2), (1, 3))]
+"""
+
+BEST = r"""
+>>> from wheneverclear.best import best, best_worth, counts, shows_best
+>>> from wheneverclear.books import Book
+>>> book = Book('book 4 1\nkind a 3 0-1\nkind b 2 1-3\nkind c 1 0-2')
+>>> weather, wishes = (1, 0, 1, 1), (('a', 0), ('b', 0), ('c', 0), ('b', 2))
+>>> [best_worth(book, weather, wishes), counts(book, weather, wishes), best(book, weather, wishes)[0]]
+[(7, 1), (((3, 1), 1), ((2, 1), 3), ((1, 1), 3)), (7, 1)]
+>>> paper = (((3, 1), ()), ((2, 1), ()), ((1, 1), (0, 1, 2, 3)))
+>>> [shows_best(book, weather, wishes, ((7, 1), looks, paper)) for looks in (((0, 0), (2, 1), (3, 3)), ((0, 0), (2, 3), (3, 1)), ((0, 0), (2, 2), (3, 1)))]
+[True, True, False]
+>>> [shows_best(book, weather, wishes, ((7, 1), ((0, 0), (2, 1), (3, 3)), paper[:-1] + (((1, 1), hours),))) for hours in ((0, 2, 3), (0, 1, 2), (1, 0, 2, 3))]
+[False, False, False]
+>>> [best_worth(book, (0, 0, 0, 0), wishes), best(book, weather, ()), counts(book, (1, 1, 1, 1), wishes)]
+[(0, 1), ((0, 1), (), ()), (((3, 1), 1), ((2, 1), 3), ((1, 1), 4))]
+"""
+
+CHOOSERS = r"""
+>>> from wheneverclear.books import Book
+>>> from wheneverclear.choosers import beaten, Chooser, led, shows_beaten
+>>> book = Book('book 3 1\nkind a 3 0-1\nkind b 2 0-2')
+>>> fine = Chooser(book, 'chooser\nhour 0 a b\nhour 1 a b\nhour 2 b')
+>>> [fine.rows, beaten(fine), led(fine, (1, 0, 1), (('b', 0), ('a', 0), ('a', 1)))]
+[(('a', 'b'), ('a', 'b'), ('b',)), ('never',), ((0, 1), (2, 0))]
+>>> other = Chooser(book, 'chooser\nhour 0 b a\nhour 1 a b\nhour 2 b')
+>>> [beaten(other)[0], led(other, (1, 0, 1), (('b', 0), ('a', 0)))]
+['beaten', ((0, 0),)]
+>>> [shows_beaten(other, ('beaten', weather, (('b', 0), ('a', 0)))) for weather in ((1, 0, 1), (1, 0, 0), (1, 1, 1), (0, 1, 1))]
+[True, True, False, False]
+>>> [shows_beaten(fine, ('never',)), shows_beaten(other, ('never',)), shows_beaten(fine, ('beaten', (1, 0, 1), (('b', 0), ('a', 0))))]
+[True, False, False]
+"""
+
 
 def failures(text):
     """What a run of the examples in a text says of those that fail."""
@@ -54,6 +126,18 @@ class RowsTest(unittest.TestCase):
 
     def test_nights(self):
         self.assertEqual(failures(NIGHTS), "")
+
+    def test_quarrels(self):
+        self.assertEqual(failures(QUARRELS), "")
+
+    def test_rule(self):
+        self.assertEqual(failures(RULE), "")
+
+    def test_best(self):
+        self.assertEqual(failures(BEST), "")
+
+    def test_choosers(self):
+        self.assertEqual(failures(CHOOSERS), "")
 
     def test_readme(self):
         with open(README, encoding="utf-8") as file:
@@ -84,6 +168,65 @@ class BelowTheRowsTest(unittest.TestCase):
         self.assertEqual(hours_of(book, "mars"), (0, 1))
         self.assertEqual(later(book, "mars", 1), ())
         self.assertNotIn(1, open_at(book, wishes, ((0, 1),), 2))
+
+    def test_which_after_weather_is_of_which_kind(self):
+        odd = Book("book 4 1\nkind gem 1 0-1\nkind sun 2 0 3")
+        wishes = (("gem", 0), ("sun", 0))
+        self.assertEqual([later(odd, "gem", 0), later(odd, "sun", 0)], [(1,), (3,)])
+        # What gem looked at first has, and what sun does, with these hours clear behind that.
+        for after, gem_first, sun_first in (((0, 0, 0), 1, 2), ((1, 0, 0), 1, 3), ((0, 0, 1), 3, 2)):
+            rest = (0,) + after
+            self.assertEqual(best_worth(odd, rest, wishes[1:]), (gem_first - 1, 1))
+            self.assertEqual(best_worth(odd, rest, wishes[:1]), (sun_first - 2, 1))
+            told = [shows_agrees(odd, ("quarrels", "gem", "sun", 0, one, other))
+                    for one, other in ((after, (0, 0, 1)), ((0, 0, 0), after))]
+            self.assertEqual(told, [gem_first < sun_first, sun_first < gem_first])
+
+    def test_not_up(self):
+        calm = Book("book 6 2\nkind comet 3 0-2\nkind moon 2 1-5\nkind star 1 0-5")
+        self.assertEqual(raised(is_ahead, calm, "comet", "star", 3), (NotUp, "comet"))
+
+    def test_why_the_rule_goes_so(self):
+        book = Book("book 4 1\nkind far 3 0-2\nkind low 3 0-1\nkind dim 1/2 0-3")
+        self.assertEqual(worth(book, "far"), worth(book, "low"))
+        self.assertEqual([len(later(book, kind, 0)) for kind in ("low", "far")], [1, 2])
+        self.assertEqual([len(later(book, kind, 1)) for kind in ("low", "far")], [0, 1])
+        wishes = (("dim", 0), ("far", 0), ("low", 0), ("far", 2))
+        self.assertEqual(open_at(book, wishes, ((0, 2),), 2), (0, 1, 3))
+        self.assertEqual(chosen(book, 2, ("dim", "far", "far"), 1), (1,))
+        wide = Book("book 2 3\nkind a 1 0-1\nkind b 5 1")
+        self.assertEqual(up(wide, 0), ("a",))
+        looks = night(wide, (2, 3), (("a", 0), ("b", 0), ("b", 1), ("a", 1), ("a", 1)))
+        self.assertEqual([hour for hour, _ in looks].count(0), 1)
+
+    def test_why_papers_are_right_or_wrong(self):
+        book = Book("book 4 1\nkind a 3 0-1\nkind b 2 1-3\nkind c 1 0-2")
+        weather, wishes = (1, 0, 1, 1), (("a", 0), ("b", 0), ("c", 0), ("b", 2))
+        self.assertEqual(counts(book, weather, wishes)[-1], ((1, 1), 3))
+        looks, paper = ((0, 0), (2, 1), (3, 3)), (((3, 1), ()), ((2, 1), ()))
+        for hours, bound in (((0, 2, 3), 6), ((0, 1, 2), 4), ((0, 1, 2, 3), 3)):
+            beside = [
+                wish for wish in wishes
+                if [hour for hour in hours_of(book, wish[0]) if hour >= wish[1] and hour not in hours]
+            ]
+            self.assertEqual(sum(weather[hour] for hour in hours) + len(beside), bound)
+            told = shows_best(book, weather, wishes, ((7, 1), looks, paper + (((1, 1), hours),)))
+            self.assertIs(told, bound == 3)
+
+    def test_what_choosers_lose(self):
+        book = Book("book 3 1\nkind a 3 0-1\nkind b 2 0-2")
+        other = Chooser(book, "chooser\nhour 0 b a\nhour 1 a b\nhour 2 b")
+        self.assertIs(is_ahead(book, "a", "b", 0), True)
+        wishes = (("b", 0), ("a", 0))
+        for weather, had, could in (((1, 0, 1), 2, 5), ((1, 1, 1), 5, 5), ((0, 1, 1), 5, 5)):
+            self.assertEqual(worth_of(book, wishes, led(other, weather, wishes)), (had, 1))
+            self.assertEqual(best_worth(book, weather, wishes), (could, 1))
+            self.assertIs(shows_beaten(other, ("beaten", weather, wishes)), had < could)
+
+    def test_texts_of_choosers_that_cannot_stand(self):
+        book = Book("book 3 1\nkind a 3 0-1\nkind b 2 0-2")
+        self.assertEqual(raised(Chooser, book, "chooser\nhour 0 a"), (BadChooser, 2))
+        self.assertEqual(raised(Chooser, book, "chooser\nhour 0 a b"), (BadChooser, 3))
 
 
 if __name__ == "__main__":

@@ -6,6 +6,9 @@ import inspect
 import os
 import unittest
 
+from wheneverclear.books import Book
+from wheneverclear.choosers import Chooser
+
 PACKAGE = os.path.join(os.path.dirname(os.path.dirname(os.path.abspath(__file__))), "wheneverclear")
 
 ERRORS = (
@@ -24,6 +27,24 @@ FUNCTIONS = {
         "fits": "book weather wishes looks", "worth_of": "book wishes looks", "open_at": "book wishes looks hour",
         "is_lesser": "book weather other", "cut": "book weather hour",
     },
+    "quarrels": {
+        "is_ahead": "book one other hour", "quarrels": "book", "agrees": "book", "shows_agrees": "book value",
+    },
+    "rule": {
+        "chosen": "book hour kinds clear", "night": "book weather wishes", "worth_had": "book weather wishes",
+    },
+    "best": {
+        "best": "book weather wishes", "best_worth": "book weather wishes", "counts": "book weather wishes",
+        "shows_best": "book weather wishes value",
+    },
+    "choosers": {
+        "led": "chooser weather wishes", "beaten": "chooser", "shows_beaten": "chooser value",
+    },
+}
+
+CLASSES = {
+    ("books", "Book"): {"__init__": "self text", "__eq__": "self other", "__len__": "self"},
+    ("choosers", "Chooser"): {"__init__": "self book text", "__eq__": "self other"},
 }
 
 
@@ -49,13 +70,20 @@ class InterfaceTest(unittest.TestCase):
     def test_errors_are_defined_in_their_file(self):
         self.assertEqual(list(defined("errors", ast.ClassDef)), ERRORS.split(" "))
 
-    def test_books_have_their_methods_themselves(self):
-        book = defined("books", ast.ClassDef)["Book"]
-        methods = [node for node in book.body if isinstance(node, ast.FunctionDef)]
-        methods = {node.name: [one.arg for one in node.args.args] for node in methods}
-        self.assertEqual(methods["__init__"], ["self", "text"])
-        self.assertEqual(methods["__len__"], ["self"])
-        self.assertEqual(methods["__eq__"], ["self", "other"])
+    def test_classes_have_their_methods_themselves(self):
+        for (module, name), told in CLASSES.items():
+            with self.subTest(module=module, name=name):
+                body = defined(module, ast.ClassDef)[name].body
+                methods = [node for node in body if isinstance(node, ast.FunctionDef)]
+                methods = {node.name: " ".join(one.arg for one in node.args.args) for node in methods}
+                self.assertEqual(methods, told)
+
+    def test_classes_have_their_attributes(self):
+        book = Book("book 2 1\nkind a 1 0-1")
+        chooser = Chooser(book, "chooser\nhour 0 a\nhour 1 a")
+        for made, names in ((book, "text hours telescopes names"), (chooser, "book text rows")):
+            for name in names.split(" "):
+                self.assertIn(name, vars(made))
 
 
 if __name__ == "__main__":

@@ -5,8 +5,8 @@ import unittest
 from fractions import Fraction
 
 from tests.samples import odd_values, some_spans
-from wheneverclear.words import added, fraction_of, fraction_text, hours_of_spans, integer_of
-from wheneverclear.words import is_ascending, is_fraction, is_integer, is_name, is_within, spans_of_hours
+from wheneverclear.words import added, fraction_of, fraction_text, hours_of_spans, in_proportion, integer_of
+from wheneverclear.words import is_ascending, is_fraction, is_integer, is_less, is_name, is_within, spans_of_hours
 
 
 class ValuesTest(unittest.TestCase):
@@ -46,6 +46,16 @@ class ValuesTest(unittest.TestCase):
         for one, other in itertools.product(amounts, amounts):
             told = Fraction(*one) + Fraction(*other)
             self.assertEqual(added(one, other), (told.numerator, told.denominator))
+
+    def test_fractions_are_compared_exactly(self):
+        amounts = [(0, 1), (1, 1), (1, 2), (5, 3), (1000, 999), (999, 1000), (998, 999), (-1, 2), (1, 3), (333, 1000)]
+        for one, other in itertools.product(amounts, amounts):
+            self.assertIs(is_less(one, other), Fraction(*one) < Fraction(*other))
+
+    def test_integers_in_proportion(self):
+        self.assertEqual(in_proportion({"a": (3, 2), "b": (1, 6), "c": (2, 1)}), {"a": 9, "b": 1, "c": 12})
+        self.assertEqual(in_proportion({"a": (7, 1)}), {"a": 7})
+        self.assertEqual(in_proportion({}), {})
 
 
 class WordsTest(unittest.TestCase):

@@ -2,7 +2,7 @@
 
 from wheneverclear.errors import BadBook, BadHours, BadName, BadWorth
 from wheneverclear.errors import Last, NoHour, NoKind, There, TooMany
-from wheneverclear.words import fraction_of, fraction_text, hours_of_spans, integer_of
+from wheneverclear.words import fraction_of, fraction_text, hours_of_spans, in_proportion, integer_of
 from wheneverclear.words import is_ascending, is_fraction, is_name, is_within, spans_of_hours
 
 MOST_HOURS = 24
@@ -36,6 +36,8 @@ class Book:
         if not self.worths:
             raise BadBook(len(lines) + 1)
         self.names = tuple(self.worths)
+        # Integers, as fractions are not compared by size where they are sorted.
+        self.weights = in_proportion(self.worths)
 
     def __eq__(self, other):
         return isinstance(other, Book) and self.text == other.text
@@ -124,6 +126,11 @@ def later(book, kind, hour):
     check_kind(book, kind)
     check_hour(book, hour)
     return tuple([own for own in book.kind_hours[kind] if own > hour])
+
+
+def rank_at(book, hour):
+    """{kind: rank} of the kinds up at an hour: less for more worth, then for fewer later hours."""
+    return {kind: (-book.weights[kind], len(later(book, kind, hour))) for kind in up(book, hour)}
 
 
 def without(book, kind):

@@ -7,27 +7,42 @@ from wheneverclear.words import added, is_ascending, is_pair, is_within
 MOST_WISHES = 24
 
 
+def is_weather(book, value):
+    """Whether a value is a weather of the book."""
+    if not isinstance(value, tuple) or len(value) != book.hours:
+        return False
+    return all([is_within(clear, 0, book.telescopes) for clear in value])
+
+
+def are_wishes(book, value):
+    """Whether a value is a tuple of wishes of the book, and of no more than are let."""
+    if not isinstance(value, tuple) or len(value) > MOST_WISHES:
+        return False
+    return all([_is_wish(book, wish) for wish in value])
+
+
+def are_looks(book, wishes, value):
+    """Whether a value is a tuple of looks at these wishes, ascending."""
+    if not isinstance(value, tuple) or not all([_is_look(book, wishes, look) for look in value]):
+        return False
+    return is_ascending(value)
+
+
 def check_weather(book, weather):
     """Raise BadWeather for what is not a weather of the book."""
-    if not isinstance(weather, tuple) or len(weather) != book.hours:
-        raise BadWeather(weather)
-    if not all([is_within(clear, 0, book.telescopes) for clear in weather]):
+    if not is_weather(book, weather):
         raise BadWeather(weather)
 
 
 def check_wishes(book, wishes):
     """Raise BadWishes for what are not wishes of the book."""
-    if not isinstance(wishes, tuple) or len(wishes) > MOST_WISHES:
-        raise BadWishes(wishes)
-    if not all([_is_wish(book, wish) for wish in wishes]):
+    if not are_wishes(book, wishes):
         raise BadWishes(wishes)
 
 
 def check_looks(book, wishes, looks):
     """Raise BadLooks for what are not looks at these wishes."""
-    if not isinstance(looks, tuple):
-        raise BadLooks(looks)
-    if not all([_is_look(book, wishes, look) for look in looks]) or not is_ascending(looks):
+    if not are_looks(book, wishes, looks):
         raise BadLooks(looks)
 
 

@@ -1,6 +1,6 @@
 """What integers, fractions, names and hours are, and how texts write them."""
 
-from math import gcd
+from math import gcd, lcm
 
 LETTERS = "abcdefghijklmnopqrstuvwxyz"
 MOST_LETTERS = 6
@@ -50,6 +50,19 @@ def added(one, other):
     bottom = one[1] * other[1]
     shared = gcd(top, bottom)
     return top // shared, bottom // shared
+
+
+def is_less(one, other):
+    """Whether a fraction is less than another one."""
+    return one[0] * other[1] < other[0] * one[1]
+
+
+def in_proportion(fractions):
+    """Integers, by the same names, that stand to one another as the fractions do."""
+    bottom = 1
+    for fraction in list(fractions.values()):
+        bottom = lcm(bottom, fraction[1])
+    return {name: top * (bottom // under) for name, (top, under) in fractions.items()}
 
 
 def integer_of(word):
