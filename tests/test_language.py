@@ -29,8 +29,11 @@ METHODS = (
     "isupper items join keys ljust lower lstrip partition pop remove replace reverse rfind rjust rpartition "
     "rsplit rstrip setdefault split splitlines startswith strip update upper values zfill bit_length title "
     "capitalize swapcase casefold center expandtabs removeprefix removesuffix rindex isascii isdecimal isnumeric "
-    "istitle isidentifier isprintable sort add discard appendleft popleft extendleft rotate format"
+    "istitle isidentifier isprintable add discard appendleft popleft extendleft rotate format"
 ).split()
+
+# Books have __eq__ and __len__, so no list has its sort called (L25).
+MODIFIERS = "append clear extend insert pop remove reverse setdefault update add discard appendleft popleft".split()
 
 BARRED_NAMES = (
     "register mro elements open input law version_info with_traceback add_note attrgetter breakpoint builtins "
@@ -174,6 +177,51 @@ def of_names(name, tree):
                 yield f"{name}:{node.lineno}: L8: {node.id} is not to be read"
 
 
+def of_library(name, tree, above):
+    """What is wrong with the uses of the library's names: they are called, and nothing else (L2)."""
+    imports = [node for node in ast.walk(tree) if isinstance(node, ast.ImportFrom) and node.module in LIBRARY]
+    names = {one.name for node in imports for one in node.names}
+    for node in ast.walk(tree):
+        if isinstance(node, ast.Name) and node.id in names:
+            call = above[node]
+            if not isinstance(call, ast.Call) or call.func is not node or call.keywords:
+                yield f"{name}:{node.lineno}: L2: {node.id} is called, with arguments by position"
+            elif any(isinstance(one, ast.Starred) for one in call.args):
+                yield f"{name}:{node.lineno}: L7: no star in a call of {node.id}"
+
+
+def gone_over(node):
+    """The names of what a loop or a comprehension goes over."""
+    over = node.iter
+    if isinstance(over, ast.Call) and isinstance(over.func, ast.Attribute):
+        parts = [over.func.value]
+    elif isinstance(over, ast.Call):
+        # What any other call tells, list(xs) too, is not what it was passed.
+        parts = over.args if isinstance(over.func, ast.Name) and over.func.id in AT_ONCE else []
+    else:
+        parts = [over]
+    return {one.id for part in parts for one in ast.walk(part) if isinstance(one, ast.Name)}
+
+
+def changed_in(node):
+    """The names of what a statement or an expression changes by methods that modify, or by its items."""
+    target = None
+    if isinstance(node, ast.Call) and isinstance(node.func, ast.Attribute) and node.func.attr in MODIFIERS:
+        target = node.func.value
+    elif isinstance(node, ast.Subscript) and not isinstance(node.ctx, ast.Load):
+        target = node.value
+    return {one.id for one in ast.walk(target) if isinstance(one, ast.Name)} if target else set()
+
+
+def of_loops(name, tree):
+    """What is wrong with loops: they do not modify what they go over (L23)."""
+    for node in ast.walk(tree):
+        if isinstance(node, ast.For):
+            changed = set().union(*(changed_in(part) for line in node.body for part in ast.walk(line)))
+            if changed & gone_over(node):
+                yield f"{name}:{node.lineno}: L23: what a loop goes over is modified in it"
+
+
 def of_attributes(name, tree, known):
     """What is wrong with methods that are called and attributes that are read (L18, L25)."""
     for node in ast.walk(tree):
@@ -270,6 +318,7 @@ def broken(texts):
         above = parents(tree)
         found += [*of_lines(name, texts[name]), *of_module(name, tree)]
         found += [*of_names(name, tree), *of_attributes(name, tree, known)]
+        found += [*of_library(name, tree, above), *of_loops(name, tree)]
         for node in ast.walk(tree):
             found += of_node(name, node)
             if isinstance(node, ast.ImportFrom):
@@ -357,9 +406,20 @@ class ScriptTest(unittest.TestCase):
                      "def f(x):\n    return x.lacks"):
             self.seen(line + "\n", "L")
 
+    def test_names_of_the_library(self):
+        for line in ("return sorted(x, key=gcd)", "return gcd(*x)", "f = gcd\n    return f(x, 1)", "return [gcd]"):
+            self.seen(f"from math import gcd\n\n\ndef f(x):\n    {line}\n", "L")
+
+    def test_loops_that_modify_what_they_go_over(self):
+        for over in ("x", "enumerate(x)", "zip(y, x)", "x.items()", "x[0]"):
+            for line in ("x.append(1)", "x[0] = 1", "x[0] += 1", "del x[0]", "x[0].pop()", "y = [x.pop()]"):
+                self.seen(f"def f(x, y):\n    for k in {over}:\n        {line}\n", "L23")
+        text = "def f(x, y):\n    for k in x:\n        y.append(k)\n    for k in list(x):\n        x.append(k)\n"
+        self.assertEqual(broken({"part": text}), [])
+
     def test_statements_and_expressions(self):
         for line in ("return 1 / 2", "return 0.5", "return {1, 2}", "return x is y", "return '%'",
-                     "return any(k for k in x)",
+                     "return any(k for k in x)", "x.sort()",
                      "return zip(x, y)", "return {k for k in x}", "raise x", "raise x.y()", "return enumerate(x)",
                      "global A"):
             self.seen(f"def f(x, y):\n    {line}\n", "L")
