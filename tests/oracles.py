@@ -1,7 +1,7 @@
 """What the document says, told anew for the tests, in other ways than the package goes."""
 
 from fractions import Fraction
-from itertools import permutations
+from itertools import combinations, permutations, product
 
 from wheneverclear.books import hours_of, worth
 
@@ -227,3 +227,198 @@ def right_best(kinds, weather, wishes, ways, value):
     if type(paper) is not tuple or len(paper) != len(steps):
         return False
     return all(is_line(kinds, weather, wishes, looks, low, line) for low, line in zip(steps, paper))
+
+
+def due_of(wishes, hour):
+    """The wishes that are due at an hour."""
+    return [wish for wish in wishes if wish[1] <= hour]
+
+
+def most_due(kinds, hours, wishes, hour, clear):
+    """How many due wishes can be done in these clear hours: a trial of all ways."""
+    weather = [1 if at in clear else 0 for at in range(hours)]
+    return most(kinds, weather, due_of(wishes, hour), lambda kind: 1)
+
+
+def matched(kinds, wishes, hour, clear):
+    """How many due wishes can be done in these clear hours, of great nights: by leading in one behind another."""
+    taken_by = {}
+
+    def lead(number, seen):
+        for at in sorted(own_hours(kinds, due[number]) & set(clear) - seen):
+            seen.add(at)
+            if at not in taken_by or lead(taken_by[at], seen):
+                taken_by[at] = number
+                return True
+        return False
+
+    due = due_of(wishes, hour)
+    return sum(lead(number, set()) for number in range(len(due)))
+
+
+def lots_of_hours(hours, hour, clear):
+    """Every lot of so many hours from hour on."""
+    return combinations(range(hour, hours), clear)
+
+
+def least_due(kinds, hours, wishes, hour, clear):
+    """How many due wishes can be done, whichever so many hours are clear: a trial of all lots of hours."""
+    return min(most_due(kinds, hours, wishes, hour, lot) for lot in lots_of_hours(hours, hour, clear))
+
+
+def fewest_clear(kinds, hours, wishes, hour):
+    """How few clear hours are enough: a trial of all lots of hours."""
+    many = len(due_of(wishes, hour))
+    for clear in range(hours - hour + 1):
+        if least_due(kinds, hours, wishes, hour, clear) == many:
+            return clear
+    return None
+
+
+def is_lot(kinds, value):
+    """Whether a value is an ascending tuple of names of kinds."""
+    if type(value) is not tuple or any(type(part) is not str or part not in kinds for part in value):
+        return False
+    return list(value) == sorted(set(value))
+
+
+def right_why_enough(kinds, hours, wishes, hour, told, value):
+    """Whether a value is right as what why_enough tells, where enough tells what is told."""
+    due = due_of(wishes, hour)
+    if type(value) is not tuple or not value or type(value[0]) is not str:
+        return False
+    if not due:
+        return value == ("nothing",)
+    if len(value) != 2 or value[0] != "lot" or not is_lot(kinds, value[1]):
+        return False
+    many = len([wish for wish in due if wish[0] in value[1]])
+    own = len([at for at in range(hour, hours) if any(at in kinds[kind][1] for kind in value[1])])
+    if told is None:
+        return many > own
+    return many > 0 and hours - hour - own + many == told
+
+
+def are_hours_from(hours, hour, value):
+    """Whether a value is an ascending tuple of unlike hours from hour on."""
+    if type(value) is not tuple or any(not is_number(part, hours - 1) or part < hour for part in value):
+        return False
+    return list(value) == sorted(set(value))
+
+
+def choices_at(kinds, wished, hour, done):
+    """What can be chosen: None, and the numbers of wishes that are up, and not done."""
+    return [None] + [at for at, kind in enumerate(wished) if hour in kinds[kind][1] and at not in done]
+
+
+def lost_at_end(kinds, wished, weather, done):
+    """What is lost when all hours are over."""
+    best = most_worth(kinds, weather, [(kind, 0) for kind in wished])
+    return best - sum((amount(kinds, wished[number]) for number in done), Fraction(0))
+
+
+def game(kinds, hours, wished):
+    """What must be lost at worst, by both sides' best ways."""
+    ends = {}
+
+    def end(weather, done):
+        if (weather, done) not in ends:
+            ends[weather, done] = lost_at_end(kinds, wished, weather, done)
+        return ends[weather, done]
+
+    def play(weather, done):
+        if len(weather) == hours:
+            return end(weather, done)
+        clear = [
+            play(weather + (1,), done | ({choice} - {None}))
+            for choice in choices_at(kinds, wished, len(weather), done)
+        ]
+        return max(play(weather + (0,), done), min(clear))
+
+    return play((), frozenset())
+
+
+def all_plans(kinds, hours, wished, hour=0, done=frozenset()):
+    """Every plan from an hour on."""
+    if hour == hours:
+        return [()]
+    cloudy = all_plans(kinds, hours, wished, hour + 1, done)
+    told = []
+    for choice in choices_at(kinds, wished, hour, done):
+        clear = all_plans(kinds, hours, wished, hour + 1, done | ({choice} - {None}))
+        told += [(choice, one, other) for one in clear for other in cloudy]
+    return told
+
+
+def all_storms(kinds, hours, wished, hour=0, done=frozenset()):
+    """Every storm from an hour on."""
+    if hour == hours:
+        return [()]
+    told = [(0, storm) for storm in all_storms(kinds, hours, wished, hour + 1, done)]
+    choices = choices_at(kinds, wished, hour, done)
+    answers = [all_storms(kinds, hours, wished, hour + 1, done | ({choice} - {None})) for choice in choices]
+    return told + [(1, tuple(zip(choices, lot))) for lot in product(*answers)]
+
+
+def played(kinds, wished, plan, weather):
+    """What a plan loses by a weather."""
+    done = []
+    for clear in weather:
+        choice, if_clear, if_cloudy = plan
+        if clear and choice is not None:
+            done.append(choice)
+        plan = if_clear if clear else if_cloudy
+    return lost_at_end(kinds, wished, weather, done)
+
+
+def most_lost(kinds, hours, wished, plan):
+    """The greatest that a plan can lose: a trial of all weathers."""
+    return max(played(kinds, wished, plan, weather) for weather in product((0, 1), repeat=hours))
+
+
+def least_lost(kinds, wished, storm, weather=(), done=()):
+    """The least that is lost against a storm: a trial of all choices."""
+    if storm == ():
+        return lost_at_end(kinds, wished, weather, done)
+    if storm[0] == 0:
+        return least_lost(kinds, wished, storm[1], weather + (0,), done)
+    return min(
+        least_lost(kinds, wished, rest, weather + (1,), done if choice is None else done + (choice,))
+        for choice, rest in storm[1]
+    )
+
+
+def against(kinds, wished, plan, storm):
+    """What is lost if a plan is played against a storm."""
+    weather, done = (), ()
+    while storm != ():
+        clear, rest = storm
+        choice, if_clear, if_cloudy = plan
+        if clear and choice is not None:
+            done += (choice,)
+        storm = dict(rest)[choice] if clear else rest
+        plan = if_clear if clear else if_cloudy
+        weather += (clear,)
+    assert plan == ()
+    return lost_at_end(kinds, wished, weather, done)
+
+
+def lots_of_kinds(kinds):
+    """Every lot of kinds, each ascending."""
+    return [lot for many in range(len(kinds) + 1) for lot in combinations(sorted(kinds), many)]
+
+
+def is_calm(kinds, hours, lot):
+    """Whether no two of these kinds quarrel at any hour."""
+    return not any(do_quarrel(kinds, one, other, hour) for one in lot for other in lot for hour in range(hours))
+
+
+def greatest_parts(kinds, hours):
+    """All parts that are within no other one, ascending."""
+    calm = [lot for lot in lots_of_kinds(kinds) if is_calm(kinds, hours, lot)]
+    return tuple(sorted(lot for lot in calm if not any(set(lot) < set(other) for other in calm)))
+
+
+def quarrels_with_some(kinds, hours, kind, worth_put_in):
+    """Whether a kind quarrels with some other one, if it has this worth."""
+    kinds = {**kinds, kind: (pair(worth_put_in), kinds[kind][1])}
+    return any(do_quarrel(kinds, kind, other, hour) for other in kinds for hour in range(hours))

@@ -5,8 +5,9 @@ import unittest
 from fractions import Fraction
 
 from tests.samples import odd_values, some_spans
-from wheneverclear.words import added, fraction_of, fraction_text, hours_of_spans, in_proportion, integer_of
-from wheneverclear.words import is_ascending, is_fraction, is_integer, is_less, is_name, is_within, spans_of_hours
+from wheneverclear.words import added, fraction_of, fraction_text, hours_of_spans, in_least_terms, integer_of
+from wheneverclear.words import is_ascending, is_fraction, is_integer, is_less, is_name, is_within, less_by
+from wheneverclear.words import shared_bottom, spans_of_hours, tops_over
 
 
 class ValuesTest(unittest.TestCase):
@@ -46,6 +47,11 @@ class ValuesTest(unittest.TestCase):
         for one, other in itertools.product(amounts, amounts):
             told = Fraction(*one) + Fraction(*other)
             self.assertEqual(added(one, other), (told.numerator, told.denominator))
+            self.assertEqual(less_by(told.as_integer_ratio(), other), one)
+
+    def test_least_terms(self):
+        told = [in_least_terms(top, bottom) for top, bottom in ((6, 4), (0, 7), (-6, 9), (5, 1), (7, 7))]
+        self.assertEqual(told, [(3, 2), (0, 1), (-2, 3), (5, 1), (1, 1)])
 
     def test_fractions_are_compared_exactly(self):
         amounts = [(0, 1), (1, 1), (1, 2), (5, 3), (1000, 999), (999, 1000), (998, 999), (-1, 2), (1, 3), (333, 1000)]
@@ -53,9 +59,11 @@ class ValuesTest(unittest.TestCase):
             self.assertIs(is_less(one, other), Fraction(*one) < Fraction(*other))
 
     def test_integers_in_proportion(self):
-        self.assertEqual(in_proportion({"a": (3, 2), "b": (1, 6), "c": (2, 1)}), {"a": 9, "b": 1, "c": 12})
-        self.assertEqual(in_proportion({"a": (7, 1)}), {"a": 7})
-        self.assertEqual(in_proportion({}), {})
+        fractions = {"a": (3, 2), "b": (1, 6), "c": (2, 1)}
+        self.assertEqual(shared_bottom(list(fractions.values())), 6)
+        self.assertEqual(tops_over(6, fractions), {"a": 9, "b": 1, "c": 12})
+        self.assertEqual(tops_over(12, {"a": (7, 4)}), {"a": 21})
+        self.assertEqual([shared_bottom([]), shared_bottom([(7, 1)]), tops_over(1, {})], [1, 1, {}])
 
 
 class WordsTest(unittest.TestCase):

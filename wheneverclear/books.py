@@ -2,8 +2,8 @@
 
 from wheneverclear.errors import BadBook, BadHours, BadName, BadWorth
 from wheneverclear.errors import Last, NoHour, NoKind, There, TooMany
-from wheneverclear.words import fraction_of, fraction_text, hours_of_spans, in_proportion, integer_of
-from wheneverclear.words import is_ascending, is_fraction, is_name, is_within, spans_of_hours
+from wheneverclear.words import fraction_of, fraction_text, hours_of_spans, integer_of, is_ascending
+from wheneverclear.words import is_fraction, is_name, is_within, shared_bottom, spans_of_hours, tops_over
 
 MOST_HOURS = 24
 MOST_TELESCOPES = 4
@@ -36,8 +36,9 @@ class Book:
         if not self.worths:
             raise BadBook(len(lines) + 1)
         self.names = tuple(self.worths)
-        # Integers, as fractions are not compared by size where they are sorted.
-        self.weights = in_proportion(self.worths)
+        # Integers, as fractions are not compared by size where they are sorted: a worth is a weight over bottom.
+        self.bottom = shared_bottom(list(self.worths.values()))
+        self.weights = tops_over(self.bottom, self.worths)
 
     def __eq__(self, other):
         return isinstance(other, Book) and self.text == other.text
@@ -77,6 +78,13 @@ def is_worth(value):
 def is_kind(book, value):
     """Whether a value is the name of a kind of the book."""
     return isinstance(value, str) and value in book.names
+
+
+def are_kinds(book, value):
+    """Whether a value is an ascending tuple of unlike names of kinds of the book, or ()."""
+    if not isinstance(value, tuple) or not all([is_kind(book, kind) for kind in value]):
+        return False
+    return is_ascending(value)
 
 
 def is_hour(book, value):
@@ -156,4 +164,20 @@ def with_kind(book, name, amount, hours):
         raise BadHours(hours)
     if len(book) == MOST_KINDS:
         raise TooMany(MOST_KINDS + 1)
-    return Book(f"{book.text}\nkind {name} {fraction_text(amount)} {spans_of_hours(hours)}")
+    return Book(f"{book.text}\n{_kind_line(name, amount, hours)}")
+
+
+def with_worth(book, kind, amount):
+    """The book in which a kind has this worth, at the place where it stands."""
+    check_kind(book, kind)
+    if not is_worth(amount):
+        raise BadWorth(amount)
+    lines = book.text.split("\n")
+    # The first line is the book's own one.
+    lines[book.names.index(kind) + 1] = _kind_line(kind, amount, book.kind_hours[kind])
+    return Book("\n".join(lines))
+
+
+def _kind_line(name, amount, hours):
+    """The line that tells a kind."""
+    return f"kind {name} {fraction_text(amount)} {spans_of_hours(hours)}"

@@ -18,8 +18,11 @@ def is_ahead(book, one, other, hour):
 
 def _leads(book, one, other, hour):
     """Whether one is ahead of other, both being up at this hour."""
-    if book.weights[one] < book.weights[other]:
-        return False
+    return book.weights[one] >= book.weights[other] and lies_within(book, one, other, hour)
+
+
+def lies_within(book, one, other, hour):
+    """Whether each later hour of one is one of other's, too."""
     return all([own in book.kind_hours[other] for own in later(book, one, hour)])
 
 
@@ -31,7 +34,8 @@ def misplaced(book, row, hour):
     ]
 
 
-def _do_quarrel(book, one, other, hour):
+def do_quarrel(book, one, other, hour):
+    """Whether two kinds quarrel at an hour."""
     if hour not in book.kind_hours[one] or hour not in book.kind_hours[other]:
         return False
     return not _leads(book, one, other, hour) and not _leads(book, other, one, hour)
@@ -42,7 +46,7 @@ def quarrels(book):
     names = sorted(book.names)
     return tuple([
         (one, other, hour) for place, one in enumerate(names) for other in names[place + 1:]
-        for hour in range(book.hours) if _do_quarrel(book, one, other, hour)
+        for hour in range(book.hours) if do_quarrel(book, one, other, hour)
     ])
 
 
@@ -99,7 +103,7 @@ def _is_quarrel(book, told):
     one, other, hour, after_one, after_other = told
     if not is_kind(book, one) or not is_kind(book, other) or not is_hour(book, hour):
         return False
-    if not _do_quarrel(book, one, other, hour):
+    if not do_quarrel(book, one, other, hour):
         return False
     return _is_wrong(book, one, other, hour, after_one) and _is_wrong(book, other, one, hour, after_other)
 

@@ -44,12 +44,20 @@ def is_ascending(rows):
     return all([one < other for one, other in zip(rows, rows[1:])])
 
 
-def added(one, other):
-    """The sum of two fractions."""
-    top = one[0] * other[1] + other[0] * one[1]
-    bottom = one[1] * other[1]
+def in_least_terms(top, bottom):
+    """The fraction of two integers, the second one above 0."""
     shared = gcd(top, bottom)
     return top // shared, bottom // shared
+
+
+def added(one, other):
+    """The sum of two fractions."""
+    return in_least_terms(one[0] * other[1] + other[0] * one[1], one[1] * other[1])
+
+
+def less_by(one, other):
+    """What is left of a fraction if another one is taken off."""
+    return added(one, (-other[0], other[1]))
 
 
 def is_less(one, other):
@@ -57,11 +65,16 @@ def is_less(one, other):
     return one[0] * other[1] < other[0] * one[1]
 
 
-def in_proportion(fractions):
-    """Integers, by the same names, that stand to one another as the fractions do."""
+def shared_bottom(fractions):
+    """The least bottom over which all of these fractions can stand."""
     bottom = 1
-    for fraction in list(fractions.values()):
-        bottom = lcm(bottom, fraction[1])
+    for _, under in fractions:
+        bottom = lcm(bottom, under)
+    return bottom
+
+
+def tops_over(bottom, fractions):
+    """Integers, by the same names, that are the tops of the fractions over this bottom."""
     return {name: top * (bottom // under) for name, (top, under) in fractions.items()}
 
 
