@@ -6,8 +6,11 @@ import inspect
 import os
 import unittest
 
+from wheneverclear.bench import Bench
 from wheneverclear.books import Book
 from wheneverclear.choosers import Chooser
+from wheneverclear.desk import Desk
+from wheneverclear.observatory import Night
 
 PACKAGE = os.path.join(os.path.dirname(os.path.dirname(os.path.abspath(__file__))), "wheneverclear")
 
@@ -40,11 +43,37 @@ FUNCTIONS = {
     "choosers": {
         "led": "chooser weather wishes", "beaten": "chooser", "shows_beaten": "chooser value",
     },
+    "enough": {
+        "enough": "book wishes hour", "why_enough": "book wishes hour", "shows_why_enough": "book wishes hour value",
+        "doable": "book wishes hour hours", "surely": "book wishes hour clear", "worst": "book wishes hour clear",
+        "shows_worst": "book wishes hour clear value",
+    },
+    "games": {
+        "loss": "book kinds", "plan_of": "book kinds", "shows_plan": "book kinds value", "storm_of": "book kinds",
+        "shows_storm": "book kinds value", "lost_by": "book kinds plan",
+    },
+    "parts": {
+        "is_part": "book kinds", "parts": "book", "fewest_left": "book", "shows_fewest_left": "book value",
+        "heals": "book kind", "bars": "book one other", "alike": "book one other",
+    },
+    "journals": {
+        "journal": "bench", "read_journal": "text",
+    },
 }
 
 CLASSES = {
     ("books", "Book"): {"__init__": "self text", "__eq__": "self other", "__len__": "self"},
     ("choosers", "Chooser"): {"__init__": "self book text", "__eq__": "self other"},
+    ("observatory", "Night"): {
+        "__init__": "self book", "wish": "self kind", "hour": "self clear", "undo": "self", "lost": "self",
+        "at_least": "self rest", "copy": "self",
+    },
+    ("bench", "Bench"): {
+        "__init__": "self text", "__eq__": "self other", "add": "self name amount hours", "cut": "self kind",
+        "price": "self kind amount", "undo": "self", "redo": "self", "trial": "self", "keep": "self",
+        "tried": "self look", "copy": "self",
+    },
+    ("desk", "Desk"): {"__init__": "self text", "say": "self line"},
 }
 
 
@@ -76,14 +105,29 @@ class InterfaceTest(unittest.TestCase):
                 body = defined(module, ast.ClassDef)[name].body
                 methods = [node for node in body if isinstance(node, ast.FunctionDef)]
                 methods = {node.name: " ".join(one.arg for one in node.args.args) for node in methods}
+                # Methods of the program's own, which the document does not list, begin with one underscore.
+                methods = {one: methods[one] for one in methods if one.startswith("__") or not one.startswith("_")}
                 self.assertEqual(methods, told)
+
+    def test_keep_stands_behind_a_star(self):
+        keep = inspect.signature(Bench.tried).parameters["keep"]
+        self.assertEqual([keep.kind, keep.default], [inspect.Parameter.KEYWORD_ONLY, False])
 
     def test_classes_have_their_attributes(self):
         book = Book("book 2 1\nkind a 1 0-1")
-        chooser = Chooser(book, "chooser\nhour 0 a\nhour 1 a")
-        for made, names in ((book, "text hours telescopes names"), (chooser, "book text rows")):
+        for made, names in (
+            (book, "text hours telescopes names"), (Chooser(book, "chooser\nhour 0 a\nhour 1 a"), "book text rows"),
+            (Night(book), "book now wishes weather looks worth"), (Bench(book.text), "book done verdict"),
+            (Desk("bench\n" + book.text), "bench"),
+        ):
             for name in names.split(" "):
                 self.assertIn(name, vars(made))
+
+    def test_no_file_is_more_than_the_document_lists_but_for_what_is_shared(self):
+        files = {name.removesuffix(".py") for name in os.listdir(PACKAGE) if name.endswith(".py")}
+        listed = {*FUNCTIONS, *(module for module, _ in CLASSES), "errors"}
+        self.assertEqual(files - listed, {"__init__", "words"})
+        self.assertEqual(listed - files, set())
 
 
 if __name__ == "__main__":

@@ -53,6 +53,11 @@ DUNDERS = (
     "rshift neg pos invert abs bool contains getitem setitem"
 ).split()
 
+BARRED_ATTRIBUTES = (
+    "items keys values pop update append clear extend insert remove reverse setdefault sort args encode decode hex "
+    "fromhex format format_map as_integer_ratio bit_count conjugate from_bytes is_integer to_bytes mro"
+).split()
+
 BARRED_NODES = (
     ast.Import, ast.AsyncFunctionDef, ast.AsyncFor, ast.AsyncWith, ast.Await,
     ast.Div, ast.MatMult, ast.Set, ast.TryStar, ast.Global,
@@ -161,6 +166,8 @@ def of_names(name, tree):
             own.add(node.arg)
         elif isinstance(node, ast.Name) and not isinstance(node.ctx, ast.Load):
             own.add(node.id)
+        elif isinstance(node, ast.ExceptHandler) and node.name:
+            own.add(node.name)
         elif isinstance(node, ast.ImportFrom):
             imported |= {one.name for one in node.names}
     for one in sorted(own):
@@ -228,6 +235,108 @@ def of_attributes(name, tree, known):
         if isinstance(node, ast.Attribute):
             if node.attr not in known and node.attr not in METHODS and node.attr != "__init__":
                 yield f"{name}:{node.lineno}: L18, L25: {node.attr}"
+
+
+def is_docstring(node):
+    """Whether a statement is a string alone."""
+    return isinstance(node, ast.Expr) and isinstance(node.value, ast.Constant)
+
+
+def is_exit_row(node, own):
+    """Whether a statement may stand in __exit__ (L6); own is the local name of an attribute of self."""
+    if isinstance(node, ast.If):
+        asked = node.test.values if isinstance(node.test, ast.BoolOp) else [node.test]
+        for one in asked:
+            is_none = isinstance(one, ast.Compare) and isinstance(one.ops[0], (ast.Is, ast.IsNot))
+            if not is_none or ast.unparse(one.comparators[0]) != "None":
+                return False
+        return all(is_exit_row(row, own) for row in node.body + node.orelse)
+    if not isinstance(node, ast.Assign) or len(node.targets) != 1:
+        return isinstance(node, ast.Pass)
+    target, value = node.targets[0], node.value
+    if not isinstance(value, (ast.Attribute, ast.Name)) and ast.unparse(value) not in ("True", "False", "None"):
+        return False
+    if isinstance(target, ast.Name):
+        return target.id == own and ast.unparse(value).startswith("self.")
+    return isinstance(target, ast.Attribute) and ast.unparse(target.value) in ("self", own)
+
+
+def of_exit(name, node):
+    """What is wrong with an __exit__ (L6): it only puts things back."""
+    where = f"{name}:{node.lineno}"
+    if [one.arg for one in node.args.args] != ["self", "kind", "value", "trace"]:
+        yield f"{where}: L6: __exit__(self, kind, value, trace)"
+    locals_ = [row.targets[0].id for row in node.body if isinstance(row, ast.Assign)
+               and isinstance(row.targets[0], ast.Name)]
+    own = locals_[0] if len(locals_) == 1 else None
+    for row in node.body:
+        if not is_docstring(row) and not is_exit_row(row, own):
+            yield f"{where}: L6: no such row in __exit__"
+    if any(isinstance(one, ast.Name) and one.id in ("value", "trace") for row in node.body for one in ast.walk(row)):
+        yield f"{where}: L6: value and trace are not read in __exit__"
+
+
+def of_class(name, node, errors):
+    """What is wrong with a class: its body, its bases, its methods and attributes (L5, L18, L26, L28)."""
+    where = f"{name}:{node.lineno}"
+    methods = [one for one in node.body if isinstance(one, ast.FunctionDef)]
+    names = [one.name for one in methods]
+    if node.decorator_list or node.keywords:
+        yield f"{where}: L5: no decorator over a class"
+    for base in node.bases:
+        if not isinstance(base, ast.Name) or base.id not in errors and base.id != "ValueError":
+            yield f"{where}: L5: no such base class"
+    for one in node.body:
+        if not isinstance(one, (ast.FunctionDef, ast.Pass)) and not is_docstring(one):
+            yield f"{where}: L5: methods alone"
+    stored = {
+        one.attr for one in ast.walk(node)
+        if isinstance(one, ast.Attribute) and isinstance(one.ctx, ast.Store) and ast.unparse(one.value) == "self"
+    }
+    if len(set(names)) != len(names) or stored & set(names):
+        yield f"{where}: L18: a name is one method, or an attribute"
+    if stored & set(BARRED_ATTRIBUTES):
+        yield f"{where}: L26: no attribute has such a name"
+    for method in methods:
+        told = [one for one in ast.walk(method) if isinstance(one, ast.Return)]
+        changes = set().union(*(changed_in(one) for one in ast.walk(method)))
+        if method.name == "__init__" and told:
+            yield f"{name}:{method.lineno}: L28: __init__ returns nothing"
+        if method.name in ("__eq__", "__len__") and (changes or len(method.body) > 2):
+            yield f"{name}:{method.lineno}: L28: it only tells"
+        if method.name == "__exit__":
+            yield from of_exit(name, method)
+
+
+def of_handler(name, node, errors):
+    """What is wrong with what a try catches (L19): own errors, and three of Python's."""
+    told = node.type.elts if isinstance(node.type, ast.Tuple) else [node.type]
+    for one in told:
+        if one is not None and ast.unparse(one) not in {*errors, "KeyError", "ZeroDivisionError", "StopIteration"}:
+            yield f"{name}:{node.lineno}: L19: {ast.unparse(one)} is not caught"
+
+
+def of_calls(name, tree, methods):
+    """What is wrong with calls of methods (L22, L24), and with lambdas (L13); methods are those of the package."""
+    sets = {
+        node.targets[0].id for node in ast.walk(tree) if isinstance(node, ast.Assign)
+        and isinstance(node.targets[0], ast.Name) and ast.unparse(node.value).startswith(("set(", "{"))
+        and not isinstance(node.value, (ast.Dict, ast.DictComp))
+    }
+    rows = []
+    for node in ast.walk(tree):
+        if isinstance(node, ast.Lambda):
+            rows.append((node.lineno, [one.arg for one in node.args.args]))
+        if isinstance(node, ast.Call) and isinstance(node.func, ast.Attribute):
+            where = f"{name}:{node.lineno}"
+            if node.keywords and node.func.attr in METHODS:
+                yield f"{where}: L22: no keywords with {node.func.attr}"
+            if node.func.attr in ("add", "discard") and node.func.attr in methods:
+                if isinstance(node.func.value, ast.Name) and node.func.value.id in sets:
+                    yield f"{where}: L24: a class has such a method, so no set has it called"
+    for row in rows:
+        if rows.count(row) > 1:
+            yield f"{name}:{row[0]}: L13: two lambdas alike on one line"
 
 
 def of_iterators(name, node, above):
@@ -313,12 +422,16 @@ def broken(texts):
     trees = {name: ast.parse(text) for name, text in texts.items()}
     files = {name: defined_in(tree) for name, tree in trees.items()}
     known = set().union(*(attributes_of(tree) for tree in trees.values()))
+    nodes = [node for tree in trees.values() for node in ast.walk(tree)]
+    classes = {node.name for node in nodes if isinstance(node, ast.ClassDef)}
+    methods = {one.name for node in nodes if isinstance(node, ast.ClassDef) for one in node.body
+               if isinstance(one, ast.FunctionDef)}
     found = list(circles(trees))
     for name, tree in trees.items():
         above = parents(tree)
         found += [*of_lines(name, texts[name]), *of_module(name, tree)]
         found += [*of_names(name, tree), *of_attributes(name, tree, known)]
-        found += [*of_library(name, tree, above), *of_loops(name, tree)]
+        found += [*of_library(name, tree, above), *of_loops(name, tree), *of_calls(name, tree, methods)]
         for node in ast.walk(tree):
             found += of_node(name, node)
             if isinstance(node, ast.ImportFrom):
@@ -327,8 +440,12 @@ def broken(texts):
                 found += of_function(name, node)
             elif isinstance(node, (ast.GeneratorExp, ast.SetComp, ast.Call)):
                 found += of_iterators(name, node, above)
-            elif isinstance(node, ast.ClassDef) and not isinstance(above[node], ast.Module):
-                found.append(f"{name}:{node.lineno}: L15: classes stand at module level")
+            elif isinstance(node, ast.ExceptHandler):
+                found += of_handler(name, node, classes)
+            elif isinstance(node, ast.ClassDef):
+                found += of_class(name, node, classes)
+                if not isinstance(above[node], ast.Module):
+                    found.append(f"{name}:{node.lineno}: L15: classes stand at module level")
     return found
 
 
@@ -416,6 +533,39 @@ class ScriptTest(unittest.TestCase):
                 self.seen(f"def f(x, y):\n    for k in {over}:\n        {line}\n", "L23")
         text = "def f(x, y):\n    for k in x:\n        y.append(k)\n    for k in list(x):\n        x.append(k)\n"
         self.assertEqual(broken({"part": text}), [])
+
+    def test_classes(self):
+        for body in ("A = []", "def f(self):\n        self.f = 1", "def f(self):\n        self.items = 1",
+                     "def __init__(self):\n        return None",
+                     "def f(self):\n        pass\n\n    def f(self):\n        pass",
+                     "def __eq__(self, other):\n        self.a.append(1)\n        return True",
+                     "def __enter__(self, one, *, clear):\n        return one.copy(clear=clear)"):
+            self.seen(f"class A:\n    {body}\n", "L")
+        self.seen("class A(int):\n    pass\n", "L5")
+        self.seen("def f(x):\n    return x\n\n\n@f\nclass A:\n    pass\n", "L5")
+        text = "class Bag:\n    def add(self, x):\n        return x\n\n\ndef f(x):\n    seen = set()\n    seen.add(x)\n"
+        self.seen(text, "L24")
+
+    def test_exits(self):
+        start = "class A:\n    def __init__(self, net):\n        self.net = net\n        self.kept = None\n\n"
+        start += "    def __exit__(self, kind, value, trace):\n        net = self.net\n        "
+        right = "if kind is not None or self.kept is None:\n            net.kept = self.kept\n        net.net = None"
+        self.assertEqual(broken({"part": start + right + "\n"}), [])
+        for row in ("net.kept = trace", "return True", "net.put(self)", "net.kept = len(self.kept)", "net.kept += 1",
+                    "if self.kept:\n            pass", "if kind == 1:\n            pass", "net = self.kept",
+                    "net.kept = self.kept + [1]", "for k in net.kept:\n            pass"):
+            self.seen(start + row + "\n", "L6")
+        self.seen(start.replace("kind, value, trace", "a, b, c") + "pass\n", "L6")
+
+    def test_what_is_caught(self):
+        for error in ("ValueError", "IndexError", "Exception", "(KeyError, TypeError)", "LookupError"):
+            self.seen(f"def f(x):\n    try:\n        return x[0]\n    except {error}:\n        return 1\n", "L19")
+        text = "class Bad(ValueError):\n    pass\n\n\ndef f(x):\n    try:\n        return x[0]\n"
+        text += "    except (Bad, KeyError):\n        return 1\n"
+        self.assertEqual(broken({"part": text}), [])
+
+    def test_lambdas(self):
+        self.seen("def f(x):\n    return [lambda k: k, lambda k: x]\n", "L13")
 
     def test_statements_and_expressions(self):
         for line in ("return 1 / 2", "return 0.5", "return {1, 2}", "return x is y", "return '%'",
